@@ -1,0 +1,1 @@
+"""Beatflows: programs of flows, beat by beat."""

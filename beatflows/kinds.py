@@ -8,8 +8,12 @@ WORDS_OF_ONE = ("not", "wide", "bit")
 
 
 def is_whole(thing, low, high):
-    # True and False are ints to Python, but no numbers here.
-    return isinstance(thing, int) and not isinstance(thing, bool) and low <= thing <= high
+    return is_number(thing) and low <= thing <= high
+
+
+def is_number(thing):
+    """Tell whether it is a whole number: True and False are ints to Python, but none here."""
+    return isinstance(thing, int) and not isinstance(thing, bool)
 
 
 def is_name(thing):
@@ -60,7 +64,7 @@ def bits_of(width, worth):
 
 
 def of_bits(bits):
-    if not _is_list(bits) or not 1 <= len(bits) <= 8:
+    if not is_list(bits) or not 1 <= len(bits) <= 8:
         raise NoBits(bits)
     if not all([is_truth(bit) for bit in bits]):
         raise NoBits(bits)
@@ -76,7 +80,7 @@ def reckoned(word, width, worths, *, to=1, at=0):
     if not is_width(width):
         raise NoWidth(width)
     wanted = 1 if word in WORDS_OF_ONE else 2
-    if not _is_list(worths) or len(worths) != wanted or not _are_worths_of_width(worths, width):
+    if not is_list(worths) or len(worths) != wanted or not _are_worths_of_width(worths, width):
         raise NoWorths(worths)
     if word == "wide" and not is_width(to):
         raise NoWidth(to)
@@ -127,6 +131,6 @@ def _is_condition(thing):
     return isinstance(thing, tuple) and len(thing) == 2 and is_name(thing[0]) and is_truth(thing[1])
 
 
-def _is_list(thing):
-    # A list that is handed in may be a tuple as well.
+def is_list(thing):
+    """Tell whether it will do where a list is wanted: a tuple will, too."""
     return isinstance(thing, (list, tuple))

@@ -42,7 +42,7 @@ def is_term(thing):
 
 
 def is_right(thing):
-    return _is_formed(thing) and _are_terms(_terms_within(thing))
+    return _is_formed(thing) and _are_terms(terms_within(thing))
 
 
 def parts_of(right):
@@ -53,7 +53,7 @@ def parts_of(right):
 def size_of(right):
     _need_right(right)
     many = len(_parts(right))
-    if _is_call(right):
+    if is_call(right):
         return many + 1
     return many
 
@@ -66,7 +66,7 @@ def names_in(right):
             names.append(part[1])
         elif part[0] == "when":
             names.append(part[2])
-    if _is_call(right) and right[-1] is not None:
+    if is_call(right) and right[-1] is not None:
         names.append(right[-1])
     return _each_once(names)
 
@@ -151,7 +151,8 @@ def _need_node(thing):
         raise NoNode(thing)
 
 
-def _is_call(right):
+def is_call(right):
+    """Tell of a right side whether it is no term: a call or a loop."""
     return right[0] in CALLS
 
 
@@ -159,9 +160,9 @@ def _are_terms(things):
     waiting = list(things)
     while waiting:
         thing = waiting.pop()
-        if not _is_formed(thing) or _is_call(thing):
+        if not _is_formed(thing) or is_call(thing):
             return False
-        waiting.extend(_terms_within(thing))
+        waiting.extend(terms_within(thing))
     return True
 
 
@@ -205,7 +206,8 @@ def _fits(slot, thing):
     return True
 
 
-def _terms_within(right):
+def terms_within(right):
+    """The terms that stand straight in a right side, as they stand; a fold's start is the first."""
     terms = []
     for slot, held in zip(FORMS[right[0]], right[1:]):
         if slot == "term":
@@ -215,14 +217,22 @@ def _terms_within(right):
     return terms
 
 
+def name_beside(term):
+    """The flow's name that stands straight in a term, None where none does."""
+    for slot, held in zip(FORMS[term[0]], term[1:]):
+        if slot == "name":
+            return held
+    return None
+
+
 def _parts(right):
     # The next part is popped from the end, so what is put there goes backwards.
-    waiting = _terms_within(right)[::-1] if _is_call(right) else [right]
+    waiting = terms_within(right)[::-1] if is_call(right) else [right]
     parts = []
     while waiting:
         part = waiting.pop()
         parts.append(part)
-        waiting.extend(_terms_within(part)[::-1])
+        waiting.extend(terms_within(part)[::-1])
     return parts
 
 

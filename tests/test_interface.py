@@ -14,7 +14,39 @@ FUNCTIONS = {
         "firsts_in(right)", "renamed(right, names, *, nodes=None)", "is_node(thing)", "lets_of(node)", "blocks_of(node)",
         "flows_of(node)",
     ],
+    "causes": ["needs(program, node)", "hangs(program, node)", "ring_of(program)", "shows_ring(program, thing)"],
+    "firsts": ["sets(program, node)", "bare_of(program)", "need_good(program)"],
+    "runs": ["run_all(program, rows)"],
+    "flats": ["need_ins(flat, ins)", "need_kept(flat, kept)"],
+    "opening": ["opened(program)", "flat_ins(program, ins)", "plain_ins(program, ins)"],
+    "steps": ["are_steps(thing, *, registers, cells, ins, outs)", "wanted_ins(flat, worths)"],
 }
+
+CLASSES = {
+    ("programs", "Program(nodes, *, main=None)"): [
+        "nodes()", "main()", "node(name)", "kinds_at(name, at)", "clock_at(name, at)", "__eq__(other)", "__len__()",
+    ],
+    ("runs", "Run(program)"): [
+        "beat(ins)", "kept()", "beats()", "worth(place, name)", "places()", "node_at(place)", "twin()", "fresh()", "lay(other)",
+        "remembers(kept, beats)",
+    ],
+    ("flats", "Flat(ins, rows, cells, outs)"): [
+        "ins()", "rows()", "cells()", "outs()", "width(name)", "clock(name)", "__eq__(other)", "__len__()",
+    ],
+    ("flats", "FlatRun(flat, *, kept=None)"): ["beat(ins)", "worth(name)", "kept()", "beats()", "twin()"],
+    ("steps", "Code(flat, *, room=None)"): [
+        "steps()", "registers()", "room()", "most()", "cells()", "ins()", "outs()", "flat()", "stands()", "__len__()",
+    ],
+    ("steps", "CodeRun(code, *, kept=None)"): ["beat(ins)", "kept()", "beats()", "taken()", "registers()", "twin()"],
+    ("steps", "Turn(code, kept, ins)"): [
+        "step()", "spot()", "ended()", "taken()", "registers()", "copied()", "outs()", "kept()",
+    ],
+}
+
+
+def without_self(function):
+    signature = inspect.signature(function)
+    return str(signature.replace(parameters=list(signature.parameters.values())[1:]))
 
 
 class Interface(unittest.TestCase):
@@ -25,6 +57,17 @@ class Interface(unittest.TestCase):
                 function = getattr(module, awaited.partition("(")[0])
                 self.assertEqual(function.__module__, module.__name__)
                 self.assertEqual(function.__name__ + str(inspect.signature(function)), awaited)
+
+    def test_classes_stand_in_their_files_with_their_methods_in_their_bodies(self):
+        for (file, awaited), methods in CLASSES.items():
+            module = importlib.import_module("beatflows." + file)
+            made = getattr(module, awaited.partition("(")[0])
+            self.assertEqual(made.__module__, module.__name__)
+            self.assertEqual(made.__name__ + without_self(made.__init__), awaited)
+            for method in methods:
+                name = method.partition("(")[0]
+                self.assertIn(name, vars(made), awaited)
+                self.assertEqual(name + without_self(vars(made)[name]), method)
 
 
 if __name__ == "__main__":

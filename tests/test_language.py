@@ -85,7 +85,7 @@ class Language(unittest.TestCase):
                 if node.module in LIBRARY:
                     self.assertLessEqual(names, LIBRARY[node.module])
                 else:
-                    self.assertRegex(node.module, r"\Abeatflows\.[a-z]+\Z")
+                    self.assertRegex(node.module, r"\Abeatflows\.[a-z_]+\Z")
                     told = tree_of(PACKAGE / (node.module.partition(".")[2] + ".py"))
                     self.assertLessEqual(names, self.bound(told), node.module)
 
@@ -151,6 +151,60 @@ class Language(unittest.TestCase):
                 name = getattr(node, "id", None) or getattr(node, "arg", None) or getattr(node, "attr", None)
                 if isinstance(name, str):
                     self.assertIsNone(UNUSED_WORDS.fullmatch(name), name)
+
+    def test_imported_names_are_used_and_public(self):
+        for path, _, tree in self.each():
+            used = {node.id for node in ast.walk(tree) if isinstance(node, ast.Name)}
+            for node in imported(tree):
+                for one in node.names:
+                    self.assertIn(one.name, used)
+                    self.assertFalse(one.name.startswith("_"), one.name)
+
+    def test_a_name_is_bound_once_at_module_level(self):
+        for path, _, tree in self.each():
+            names = [one.name for node in imported(tree) for one in node.names]
+            names += [node.name for node in tree.body if isinstance(node, (ast.FunctionDef, ast.ClassDef))]
+            names += [target.id for node in tree.body if isinstance(node, ast.Assign) for target in node.targets]
+            self.assertEqual(sorted(names), sorted(set(names)))
+            for node in ast.walk(tree):
+                if isinstance(node, ast.arg):
+                    self.assertNotIn(node.arg, names)
+                if isinstance(node, ast.Name) and isinstance(node.ctx, ast.Store):
+                    top = any(isinstance(one, ast.Assign) and node in one.targets for one in tree.body)
+                    self.assertTrue(top or node.id not in names, node.id)
+
+    def test_a_name_is_a_method_or_an_attribute(self):
+        methods, attributes = set(), set()
+        for path, _, tree in self.each():
+            for node in ast.walk(tree):
+                if isinstance(node, ast.ClassDef):
+                    methods |= {one.name for one in node.body if isinstance(one, ast.FunctionDef)}
+                if isinstance(node, ast.Attribute) and isinstance(node.ctx, ast.Store):
+                    attributes.add(node.attr)
+        self.assertEqual(methods & attributes, set())
+        self.assertEqual(methods & builtin_methods(), set())
+        self.assertEqual(attributes & builtin_methods(), set())
+
+    def test_is_stands_beside_none_true_and_false(self):
+        for path, _, tree in self.each():
+            for node in ast.walk(tree):
+                if isinstance(node, ast.Compare) and any(isinstance(op, (ast.Is, ast.IsNot)) for op in node.ops):
+                    self.assertTrue(all(isinstance(one, ast.Constant) for one in node.comparators), node.lineno)
+
+    def test_no_generators_sets_or_decorators(self):
+        for path, _, tree in self.each():
+            for node in ast.walk(tree):
+                self.assertNotIsInstance(node, (ast.GeneratorExp, ast.Yield, ast.YieldFrom, ast.Set, ast.Try, ast.Lambda))
+                if isinstance(node, ast.FunctionDef):
+                    self.assertEqual(node.decorator_list, [])
+
+    def test_what_is_iterated_at_once_is_not_kept(self):
+        for path, _, tree in self.each():
+            for node in ast.walk(tree):
+                if isinstance(node, (ast.Assign, ast.Return)) and isinstance(node.value, ast.Call):
+                    called = node.value.func
+                    name = called.id if isinstance(called, ast.Name) else getattr(called, "attr", "")
+                    self.assertNotIn(name, ("zip", "enumerate", "reversed", "range", "items", "keys", "values", "map", "iter"))
 
 
 if __name__ == "__main__":

@@ -79,7 +79,8 @@ def reached_from(name, asked):
     told = {name: True}
     waiting = [name]
     while waiting:
-        for other in asked.get(waiting.pop(), []):
+        last = waiting.pop()
+        for other in asked.get(last, []):
             if other not in told:
                 told[other] = True
                 waiting.append(other)

@@ -170,6 +170,11 @@ class Maps(CallCase):
     def test_outs_are_widths(self):
         self.misfits(("map", "torow", (n("r"),), None), "kind", "torow", (3, 4))
         self.misfits(("map", "torow", (n("w"),), None), "kind", n("w"), (3, 4))
+        # One out that is a row is enough, wherever it stands.
+        for outs in ([("o", 4), ("l", (2, 4))], [("l", (2, 4)), ("o", 4)]):
+            self.ahead = [node("half", [("p", 4)], outs, [], let("o", n("p")), let("l", ("row", (n("p"), n("p")))))]
+            kinds = [(3, flow[1]) if flow[0] == "o" else (3, 1) for flow in outs]
+            self.misfits(("map", "half", (n("r"),), None), "kind", "half", *kinds)
 
     def test_as_many(self):
         self.misfits(("map", "plus", (n("r"),), None), "many", "plus", (3, 4))

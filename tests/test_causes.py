@@ -196,6 +196,12 @@ class Rings(RefusalCase):
         self.ring(["b", "d", "c"], chained(b=["d", "e"], c=["b"], d=["f", "c"], e=["f"], f=["b"]))
         self.ring(["a", "b", "d"], chained(d=["a"], c=["d"], b=["d"], a=["c", "b"], e=["c"]))
 
+    def test_the_least_by_names_not_by_where_they_stand(self):
+        self.ring(["a", "d"], chained(y=["z"], z=["y"], d=["a"], a=["d"]))
+        self.ring(["b", "z"], chained(z=["b"], y=["c"], c=["y"], b=["z"]))
+        self.ring(["p"], chained(q=["q"], p=["p"]))
+        self.ring(["b", "c", "z"], chained(z=["b"], y=["b"], d=["y"], c=["z"], b=["d", "c"]))
+
     def test_by_clocks_calls_and_blocks(self):
         self.ring(["x"], CROSS, node("m", [("a", 4)], [("x", 4), ("y", 4)], [],
                                      let("x y", ("call", "cross", (n("a"), n("x")), None))))

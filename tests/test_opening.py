@@ -193,6 +193,13 @@ class Refused(BesideCase):
         self.refused_fields(Barred, TooMany, {"many": 401}, opened, program(self.wide(401)))
         self.refused_fields(Barred, TooMany, {"many": 401}, opened, program(self.wide(401, [("a", 1)])))
 
+    def test_what_isnt_good_ahead_of_too_many(self):
+        for term, error, fields in ((n("xaa"), Ringed, {"where": "wide", "ring": ["xaa"]}),
+                                    (last("xaa"), Bare, {"where": "wide", "at": 0, "found": "xaa"})):
+            name, some, outs, inner, lets = self.wide(401)
+            worse = program((name, some, outs, inner, (let("xaa", term), *lets[1:])))
+            self.refused_fields(FlowError, error, fields, opened, worse)
+
     def rows(self, many, spare):
         """A program whose main one keeps last worths: so many cells, and spare widths beside."""
         names = ["x" + chr(97 + at // 26) + chr(97 + at % 26) for at in range(many)]

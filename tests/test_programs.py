@@ -356,6 +356,10 @@ class WhichGoes(RefusalCase):
         self.unfit(alone(block(first, state("t", [gone]))), "m", 1, "unknown", "gone")
         self.unfit(alone(block(first, state("s", [let("x", YES), gone]))), "m", 2, "twice", "x")
         self.unfit(alone(block(first, state("t", [let("x", YES)])), let("y", n("gone")), inner=[("y", 1)]), "m", -1, "kind", bad[0])
+        # Whatever stands ahead of the block.
+        self.unfit(alone(let("y", YES), block(first, state("t", [gone])), inner=[("y", 1)]), "m", 2, "unknown", "gone")
+        ahead = block(state("s", [let("y", YES)]), state("t", [let("y", YES)]))
+        self.unfit(alone(ahead, block(first, state("t", [gone])), inner=[("y", 1)]), "m", 3, "unknown", "gone")
         other = block(state("s", [let("y", n("gone"))]))
         self.unfit(alone(block(first, state("t", [let("x", YES)])), other, inner=[("y", 1)]), "m", -1, "kind", bad[0])
         self.unfit(alone(other, block(first), inner=[("y", 1)]), "m", 0, "unknown", "gone")
@@ -371,6 +375,9 @@ class WhichGoes(RefusalCase):
         two = [("x", 1), ("y", 1, (ON,)), ("z", 1)]
         for names, why, found in (("x nope", "unknown", "nope"), ("x x", "twice", "x"), ("x y", "clock", "y")):
             self.unfit(alone(let(names, gone), ins=[("a", 1)], outs=two), "m", 0, why, found)
+            self.unfit(alone(block(state("s", [let(names, gone)])), ins=[("a", 1)], outs=two), "m", 0, why, found)
+        # In a state the clock of the names is looked at ahead of the right side, too, be they all of one.
+        self.unfit(alone(block(state("s", [let("y", n("gone"))])), let("x z", gone), ins=[("a", 1)], outs=two), "m", 0, "clock", "y")
         self.unfit(alone(let("x z", n("gone")), ins=[("a", 1)], outs=two), "m", 0, "many", "z")
         # Each word of all names, ahead of the next word of any.
         self.unfit(alone(let("x x nope", gone), outs=X), "m", 0, "unknown", "nope")

@@ -75,6 +75,22 @@ class Lasts(RunCase):
         told = {name: run.worth((), name) for name in "pquvk"}
         self.assertEqual(told, {"p": 9, "q": (9, 9), "u": (1, 2), "v": 9, "k": 9})
 
+    def test_in_an_instance_that_begins_anew(self):
+        keep = node("keep", [("a", 4)], [("x", 4), ("y", 4)], [("p", 4, (), 6), ("q", (2, 4), (), (1, 2)), ("u", 4)],
+                    let("p", n("a")), let("q", ("row", (n("a"), n("a")))), let("x", ("add", last("p"), ("at", 1, last("q")))),
+                    let("u", last("a")), let("y", ("first", lit(4, 15), n("u"))))
+        one = program(keep, node("m", [("e", 1), ("w", 4)], [("x", 4), ("y", 4)], [], let("x y", ("call", "keep", (n("w"),), "e"))))
+        rows = [{"e": e, "w": w} for e, w in ((0, 3), (0, 4), (1, 5), (0, 7), (1, 1), (1, 2))]
+        self.assertEqual([(told["x"], told["y"]) for told in self.beside(one, rows)],
+                         [(8, 15), (6, 3), (8, 15), (10, 5), (8, 15), (8, 15)])
+        run = Run(one)
+        seen = []
+        for row in rows:
+            run.beat(row)
+            seen.append(run.worth(((0, 0),), "u"))
+        # Of no first it is nought at the first beat of each begin.
+        self.assertEqual(seen, [0, 3, 0, 5, 0, 0])
+
     def test_of_rows(self):
         one = program(node("m", [("r", (2, 4))], [("x", (2, 4), (), (3, 4))], [],
                            let("x", ("row", (("add", ("at", 0, last("x")), ("at", 0, n("r"))), ("at", 0, last("x")))))))

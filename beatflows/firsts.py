@@ -2,6 +2,7 @@
 
 from beatflows.causes import need_node_of, ring_of
 from beatflows.errors import Bare, Ringed
+from beatflows.programs import need_program
 from beatflows.terms import blocks_of, flows_of, is_call, lets_of, parts_of, terms_within
 
 
@@ -21,10 +22,14 @@ def bare_of(program):
 
 
 def need_good(program):
+    need_program(program)
+    if program.made("good"):
+        return
     bare = bare_of(program)
     if bare is not None:
         where, at, found = bare
         raise Bare(where, at, found)
+    program.hold("good", True)
 
 
 def _need_no_ring(program):

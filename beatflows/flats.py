@@ -50,6 +50,10 @@ class Flat:
     def clock(self, name):
         return self._flow(name)[1]
 
+    def width_there(self, name):
+        """The width of a flat name that is known to be there."""
+        return self._flows[name][0]
+
     def _flow(self, name):
         if not is_flat_name(name) or name not in self._flows:
             raise NotThere(name)
@@ -133,7 +137,7 @@ class FlatReading:
         if word == "lit":
             return term[1], term[2]
         if word == "flat":
-            return self._flat.width(term[1]), self._worths.get(term[1], 0)
+            return self._flat.width_there(term[1]), self._worths.get(term[1], 0)
         if word == "cell":
             return self._cell(term[1])
         pairs = [self._worth(part) for part in terms_within(term)]

@@ -1,5 +1,6 @@
 """The instances of a good program, and the items that a run of it remembers."""
 
+from beatflows.kinds import is_number
 from beatflows.plans import plans_of, worths_of_kind
 
 
@@ -22,8 +23,12 @@ class Layout:
         """All places, rising."""
         return sorted(self._at)
 
-    def has(self, place):
-        return place in self._at
+    def has(self, thing):
+        """Tell of any thing whether it is the place of an instance."""
+        # What is no place can't be looked up, and True would pass for 1.
+        if not isinstance(thing, tuple) or not all([_is_step(step) for step in thing]):
+            return False
+        return thing in self._at
 
     def plan_at(self, place):
         return self._at[place]
@@ -52,6 +57,17 @@ class Layout:
             for one in plan.lets:
                 waiting.extend(beneath(child, one))
         return told
+
+
+def layout_of(program):
+    """The layout of a good program, made once."""
+    if program.made("layout") is None:
+        program.hold("layout", Layout(program))
+    return program.made("layout")
+
+
+def _is_step(thing):
+    return isinstance(thing, tuple) and len(thing) == 2 and is_number(thing[0]) and is_number(thing[1])
 
 
 def beneath(place, let):

@@ -7,7 +7,7 @@ from beatflows.flat_rows import is_flat_name
 from beatflows.flat_terms import flat_clock, flow_name
 from beatflows.flats import Flat
 from beatflows.kinds import is_worth
-from beatflows.layout import Layout, worth_at
+from beatflows.layout import layout_of, worth_at
 from beatflows.opening_rows import OpenedRows
 from beatflows.plans import plans_of, worths_of_kind
 from beatflows.programs import need_program
@@ -15,18 +15,9 @@ from beatflows.programs import need_program
 
 def opened(program):
     need_good(program)
-    # What is too much is counted, not opened up: calls within calls come to more than can be made.
-    many = _counted(plans_of(program))[program.main()]
-    if many > MOST_FLOWS:
-        raise TooMany(many)
-    layout = Layout(program)
-    rows = OpenedRows(layout)
-    plan = layout.plan_at(())
-    outs = []
-    for name in plan.out_names:
-        kind, clock, _ = plan.flows[name]
-        outs.append((name, tuple(_names_of(name, kind)), flat_clock((), clock)))
-    return Flat(_opened_ins(plan), rows.rows(), rows.cells(), outs)
+    if program.made("flat") is None:
+        program.hold("flat", _made_flat(program))
+    return program.made("flat")
 
 
 def flat_ins(program, ins):
@@ -58,6 +49,21 @@ def plain_ins(program, ins):
     if many != len(ins) or not all([is_worth(told[name], kinds[name]) for name in told]):
         raise NoIns(ins)
     return told
+
+
+def _made_flat(program):
+    # What is too much is counted, not opened up: calls within calls come to more than can be made.
+    many = _counted(plans_of(program))[program.main()]
+    if many > MOST_FLOWS:
+        raise TooMany(many)
+    layout = layout_of(program)
+    rows = OpenedRows(layout)
+    plan = layout.plan_at(())
+    outs = []
+    for name in plan.out_names:
+        kind, clock, _ = plan.flows[name]
+        outs.append((name, tuple(_names_of(name, kind)), flat_clock((), clock)))
+    return Flat(_opened_ins(plan), rows.rows(), rows.cells(), outs)
 
 
 def _kinds_of_ins(program):

@@ -21,6 +21,7 @@ class Program:
             raise NotThere(main)
         self._named = {}
         self._judged = {}
+        self._made = {}
         for node in self._nodes:
             self._judged[node[0]] = judged_node(node, self._named, self._main)
             self._named[node[0]] = node
@@ -48,6 +49,14 @@ class Program:
     def clock_at(self, name, at):
         _, clock = self._judged_at(name, at)
         return clock
+
+    def made(self, word):
+        """What was made of it once and held under this word, None where nothing was."""
+        return self._made.get(word)
+
+    def hold(self, word, thing):
+        """Hold what was made of it: neither ever changes, so it need not be made again."""
+        self._made[word] = thing
 
     def _need_node(self, name):
         if not _is_one_of(name, self._named):

@@ -3,8 +3,8 @@
 from beatflows.bounds import MOST_BEATS
 from beatflows.errors import NoIns, NotThere, Over
 from beatflows.firsts import need_good
-from beatflows.kinds import is_list, is_number, is_worth
-from beatflows.layout import Layout
+from beatflows.kinds import is_list, is_worth
+from beatflows.layout import layout_of
 from beatflows.reading import Reading
 
 
@@ -14,7 +14,7 @@ class Run:
     def __init__(self, program):
         need_good(program)
         self._program = program
-        self._layout = Layout(program)
+        self._layout = layout_of(program)
         self._begins = self._layout.begins()
         self._memory = {item: self._begins[item] for item in self._begins}
         self._worths = {}
@@ -40,7 +40,7 @@ class Run:
         return self._beats
 
     def worth(self, place, name):
-        if not self._is_there(place) or not isinstance(name, str) or name not in self._layout.plan_at(place).flows:
+        if not self._layout.has(place) or not isinstance(name, str) or name not in self._layout.plan_at(place).flows:
             raise NotThere((place, name))
         return self._worths.get((place, name))
 
@@ -48,7 +48,7 @@ class Run:
         return self._layout.all_places()
 
     def node_at(self, place):
-        if not self._is_there(place):
+        if not self._layout.has(place):
             raise NotThere(place)
         return self._layout.plan_at(place).called
 
@@ -70,22 +70,12 @@ class Run:
         self._worths = {}
         self._beats = beats
 
-    def _is_there(self, place):
-        # What is no place can't be looked up, and True would pass for 1.
-        if not isinstance(place, tuple) or not all([_is_step(step) for step in place]):
-            return False
-        return self._layout.has(place)
-
 
 def run_all(program, rows):
     run = Run(program)
     if not is_list(rows) or len(rows) > MOST_BEATS:
         raise NoIns(rows)
     return [run.beat(ins) for ins in rows]
-
-
-def _is_step(thing):
-    return isinstance(thing, tuple) and len(thing) == 2 and is_number(thing[0]) and is_number(thing[1])
 
 
 def _are_ins(thing, plan):

@@ -104,9 +104,9 @@ def is_node(thing):
     name, ins, outs, inner, lets = thing
     return (
         is_node_name(name)
-        and _is_tuple_of(ins, _is_in, 0, None)
-        and _is_tuple_of(outs, _is_flow, 1, None)
-        and _is_tuple_of(inner, _is_flow, 0, None)
+        and _is_tuple_of(ins, is_in, 0, None)
+        and _is_tuple_of(outs, is_flow, 1, None)
+        and _is_tuple_of(inner, is_flow, 0, None)
         and _is_tuple_of(lets, _is_let_or_block, 1, None)
     )
 
@@ -274,19 +274,19 @@ def _is_tuple_of(thing, is_good, fewest, most):
     return all([is_good(one) for one in thing])
 
 
-def _is_in(thing):
+def is_in(thing):
     if not isinstance(thing, tuple) or len(thing) != 3:
         return False
     return is_name(thing[0]) and is_kind(thing[1]) and is_clock(thing[2])
 
 
-def _is_flow(thing):
-    if not isinstance(thing, tuple) or len(thing) != 4 or not _is_in(thing[:3]):
+def is_flow(thing):
+    if not isinstance(thing, tuple) or len(thing) != 4 or not is_in(thing[:3]):
         return False
     return thing[3] is None or is_worth(thing[3], thing[1])
 
 
-def _is_let(thing):
+def is_let(thing):
     if not isinstance(thing, tuple) or len(thing) != 3 or thing[0] != "let":
         return False
     return _is_tuple_of(thing[1], is_name, 1, 4) and is_right(thing[2])
@@ -299,19 +299,19 @@ def _is_block(thing):
 
 
 def _is_let_or_block(thing):
-    return _is_let(thing) or _is_block(thing)
+    return is_let(thing) or _is_block(thing)
 
 
 def _is_state(thing):
     if not isinstance(thing, tuple) or len(thing) != 4:
         return False
     name, lets, strong, weak = thing
-    if not is_name(name) or not _is_tuple_of(lets, _is_let, 1, None):
+    if not is_name(name) or not _is_tuple_of(lets, is_let, 1, None):
         return False
-    return _is_tuple_of(strong, _is_way, 0, 4) and _is_tuple_of(weak, _is_way, 0, 4)
+    return _is_tuple_of(strong, is_way, 0, 4) and _is_tuple_of(weak, is_way, 0, 4)
 
 
-def _is_way(thing):
+def is_way(thing):
     if not isinstance(thing, tuple) or len(thing) != 3:
         return False
     return is_term(thing[0]) and is_name(thing[1]) and is_truth(thing[2])

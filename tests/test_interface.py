@@ -20,6 +20,18 @@ FUNCTIONS = {
     "flats": ["need_ins(flat, ins)", "need_kept(flat, kept)"],
     "opening": ["opened(program)", "flat_ins(program, ins)", "plain_ins(program, ins)"],
     "steps": ["are_steps(thing, *, registers, cells, ins, outs)", "wanted_ins(flat, worths)"],
+    "traces": [
+        "origin(program, name)", "found_by(program, place, at)", "shows_reason(flat, rows, thing)", "for_whom(code, at)",
+        "bits_at(net, wire)", "leads(net, wire)",
+    ],
+    "sayings": [
+        "saying(program, out, *, most=200)", "shows_holds(program, out, thing)", "shows_falls(program, out, thing)",
+        "likeness(one, other, *, most=200)", "shows_alike(one, other, thing)", "shows_parted(one, other, thing)",
+        "nexts(flat, memory)", "reached(flat, *, most=200)",
+    ],
+    "modules": ["joined(mades, main)"],
+    "edits": ["led_over(one, other)"],
+    "texts": ["written(program)", "read(text)", "term_text(term)", "read_term(text)"],
 }
 
 CLASSES = {
@@ -41,6 +53,16 @@ CLASSES = {
     ("steps", "Turn(code, kept, ins)"): [
         "step()", "spot()", "ended()", "taken()", "registers()", "copied()", "outs()", "kept()",
     ],
+    ("wires", "Net(flat)"): ["flat()", "gates()", "ins()", "cells()", "outs()", "deep()", "wires_of(name)", "__len__()"],
+    ("wires", "NetRun(net, *, kept=None)"): ["beat(ins)", "kept()", "truths()", "beats()", "twin()"],
+    ("device", "Device(code, *, time=64)"): [
+        "give(letter)", "ticks(many=1, *, told=None)", "tick()", "beat()", "under_way()", "lacks()", "given()", "came()", "late()",
+        "kept()", "twin()",
+    ],
+    ("traces", "Trace(program)"): ["had(name, beat)", "since(item, beat)", "reason(name, beat)"],
+    ("modules", "Made(module, uses=())"): ["name()", "uses()", "nodes()", "face()", "__eq__(other)"],
+    ("edits", "Live(program)"): ["edit(program, *, at, led=())", "take_back(at)", "program()", "to_come()", "taken()"],
+    ("desk", "Desk()"): ["say(row)"],
 }
 
 

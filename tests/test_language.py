@@ -35,6 +35,8 @@ SPECIAL = set(
 
 UNUSED_WORDS = re.compile(r"\b(register|mro|elements|open|input|law|eval|exec|getattr|setattr|hasattr|globals|locals|vars)\b")
 
+BARRED_NAMES = re.compile(r"_(wall|pe_|dcw_|enum_|cm_|twin_re_|lay_|law_|stub_|sre|WallAttr).*|_(cold|tuplegetter|outside|record|written_out|member_names)[0-9_]*")
+
 BARRED_NODES = (
     ast.Global, ast.AsyncFunctionDef, ast.AsyncFor, ast.AsyncWith, ast.Await, ast.Div, ast.Import, ast.MatMult, ast.AnnAssign,
 )
@@ -151,6 +153,7 @@ class Language(unittest.TestCase):
                 name = getattr(node, "id", None) or getattr(node, "arg", None) or getattr(node, "attr", None)
                 if isinstance(name, str):
                     self.assertIsNone(UNUSED_WORDS.fullmatch(name), name)
+                    self.assertIsNone(BARRED_NAMES.fullmatch(name), name)
 
     def test_imported_names_are_used_and_public(self):
         for path, _, tree in self.each():
@@ -194,9 +197,20 @@ class Language(unittest.TestCase):
     def test_no_generators_sets_or_decorators(self):
         for path, _, tree in self.each():
             for node in ast.walk(tree):
-                self.assertNotIsInstance(node, (ast.GeneratorExp, ast.Yield, ast.YieldFrom, ast.Set, ast.Try, ast.Lambda))
+                self.assertNotIsInstance(node, (ast.GeneratorExp, ast.Yield, ast.YieldFrom, ast.Set, ast.Lambda))
                 if isinstance(node, ast.FunctionDef):
                     self.assertEqual(node.decorator_list, [])
+
+    def test_own_errors_alone_are_caught_and_what_is_final_is_plain(self):
+        own = {node.name for node in tree_of(PACKAGE / "errors.py").body if isinstance(node, ast.ClassDef)}
+        for path, _, tree in self.each():
+            for node in ast.walk(tree):
+                if isinstance(node, ast.ExceptHandler):
+                    self.assertIn(node.type.id, own)
+                if isinstance(node, ast.Try):
+                    for one in node.finalbody:
+                        self.assertIsInstance(one, ast.Assign)
+                        self.assertIsInstance(one.value, (ast.Constant, ast.Name, ast.Attribute))
 
     def test_what_is_iterated_at_once_is_not_kept(self):
         for path, _, tree in self.each():

@@ -30,7 +30,9 @@ class Made:
         many = len(self._nodes) + len(called)
         if many > MOST_NODES:
             raise TooMany(many)
-        program = Program([*[stand_in(name, called[name]) for name in called], *self._nodes])
+        # Of used ones the faces are all that counts.
+        used = [stand_in(name, called[name]) for name in called]
+        program = Program([*used, *self._nodes])
         need_good(program)
         self._face = {node[0]: (node[1], node[2], hangs(program, node[0])) for node in self._nodes}
 

@@ -103,19 +103,19 @@ def reason_for(record, thing, beat):
     """All by which it has its worth at the beat: rows (name or item, beat, worth, reads), each behind what it reads."""
     rows = []
     done = {}
-    waiting = [((thing, beat), False)]
+    waiting = [((thing, beat), None)]
     while waiting:
-        key, ready = waiting.pop()
+        key, reads = waiting.pop()
         if key in done:
             continue
-        reads = record.reads(key[0], key[1])
-        if ready:
+        if reads is None:
+            # It is met again when all that it reads is done.
+            reads = record.reads(key[0], key[1])
+            waiting.append((key, reads))
+            waiting.extend([(read, None) for read in reversed(reads) if read not in done])
+        else:
             done[key] = True
             rows.append((key[0], key[1], record.had(key[0], key[1]), reads))
-        else:
-            # It is met again when all that it reads is done.
-            waiting.append((key, True))
-            waiting.extend([(read, False) for read in reversed(reads) if read not in done])
     return rows
 
 

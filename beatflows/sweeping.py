@@ -137,12 +137,10 @@ class Walk:
         self.met = None
         edge = [sweep.first()]
         while edge and self.met is None:
-            steps = [sweep.step(one) for one in edge]
-            for one, step in zip(edge, steps):
-                if self.met is None and step[0] is not None:
-                    self.met = (one, step[0])
-            if self.met is None:
-                edge = self._next_edge(edge, steps, most)
+            edge = self._edge_behind(sweep, edge, most)
+            # What is met goes ahead of what comes behind its beat, however many that is.
+            if self.met is None and len(self.ahead) > most:
+                raise TooMany(most + 1)
 
     def rows(self, sweep):
         """The ins by which it came to what was met."""
@@ -161,15 +159,18 @@ class Walk:
             told[one] = 0 if near is None else told[near[0]] + 1
         return {one: told[one] for one in sorted(told)}
 
-    def _next_edge(self, edge, steps, most):
+    def _edge_behind(self, sweep, edge, most):
+        """All that these lead to that wasn't come to yet, or, where there is too much, as much as tells so."""
         fresh = []
-        for one, step in zip(edge, steps):
-            for number, behind in enumerate(step[1]):
-                if behind not in self.ahead:
-                    self.ahead[behind] = (one, number)
-                    fresh.append(behind)
-            if len(self.ahead) > most:
-                raise TooMany(most + 1)
+        for one in edge:
+            number, behind = sweep.step(one)
+            if number is not None:
+                self.met = (one, number)
+                return []
+            for at, near in enumerate(behind):
+                if near not in self.ahead and len(self.ahead) <= most:
+                    self.ahead[near] = (one, at)
+                    fresh.append(near)
         return fresh
 
 

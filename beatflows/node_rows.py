@@ -22,7 +22,7 @@ class ProgramRows:
         words = words_of_row(row)
         if words == []:
             return True
-        if words is None or self.main_name is not None or not isinstance(words[0], str):
+        if words is None or self.main_name is not None:
             return False
         if words[0] in ("node", "main"):
             return self._take_name(words)
@@ -73,8 +73,8 @@ class NodeRows:
         return words == ["end"] and self._take_end()
 
     def is_whole_node(self):
-        """Tell whether the rows make a node, if none comes any more."""
-        return self._block is None and len(self._outs) > 0 and len(self._lets) > 0
+        """Tell whether the rows make a node, if none comes any more; no let is there ahead of all outs."""
+        return self._block is None and len(self._lets) > 0
 
     def made_node(self):
         return self._name, tuple(self._ins), tuple(self._outs), tuple(self._inner), tuple(self._lets)

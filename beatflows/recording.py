@@ -93,9 +93,8 @@ def read_in_term(term):
     if term[0] == "flat" or term[0] == "cell":
         return [term[1]]
     told = []
-    if term[0] != "lit":
-        for part in terms_within(term):
-            told.extend(read_in_term(part))
+    for part in terms_within(term):
+        told.extend(read_in_term(part))
     return told
 
 

@@ -113,9 +113,7 @@ def _held_in(thing, word):
     """The list that a paper of this word holds, None of what is no such paper."""
     if not isinstance(thing, tuple) or len(thing) != 2:
         return None
-    if not isinstance(thing[0], str) or thing[0] != word or not is_list(thing[1]):
-        return None
-    return thing[1]
+    return thing[1] if thing[0] == word and is_list(thing[1]) else None
 
 
 def _is_memory(flat, thing):

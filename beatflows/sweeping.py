@@ -136,7 +136,7 @@ class Walk:
         self.ahead = {sweep.first(): None}
         self.met = None
         edge = [sweep.first()]
-        while edge and self.met is None:
+        while edge:
             edge = self._edge_behind(sweep, edge, most)
             # What is met goes ahead of what comes behind its beat, however many that is.
             if self.met is None and len(self.ahead) > most:
@@ -160,7 +160,7 @@ class Walk:
         return {one: told[one] for one in sorted(told)}
 
     def _edge_behind(self, sweep, edge, most):
-        """All that these lead to that wasn't come to yet, or, where there is too much, as much as tells so."""
+        """All that these lead to that wasn't come to yet, none where something is met; of too much what tells so."""
         fresh = []
         for one in edge:
             number, behind = sweep.step(one)

@@ -1,6 +1,6 @@
 """Rows of words read: right sides in brackets, kinds, clocks, numbers; None stands for what is none."""
 
-from beatflows.terms import FORMS, SLOTS_OF_TERMS
+from beatflows.terms import FORMS
 
 # No number that is handed in has more figures.
 MOST_FIGURES = 30
@@ -19,11 +19,10 @@ def words_of_row(row):
         core = word.lstrip("(")
         open_ones.extend([[] for _ in range(len(word) - len(core))])
         inner = core.rstrip(")")
-        if "(" in inner or ")" in inner:
-            return None
         if inner:
+            # A bracket within it is no sign of any name or number, and so is found where the word is read.
             open_ones[-1].append(inner)
-        elif not _is_empty_bracket(word):
+        elif not word.startswith("()"):
             return None
         for _ in range(len(core) - len(inner)):
             closed = _closed(open_ones.pop())
@@ -53,9 +52,7 @@ def worth_of(word):
 def kind_of_word(word):
     """The kind that is plainly written, or what looks like one."""
     numbers = [number_of(part) for part in word.split("x")]
-    if None in numbers or len(numbers) > 2:
-        return None
-    return tuple(numbers) if len(numbers) == 2 else numbers[0]
+    return tuple(numbers) if len(numbers) > 1 else numbers[0]
 
 
 def clock_of_word(word):
@@ -67,11 +64,6 @@ def clock_of_word(word):
         name, _, truth = condition.partition(":")
         told.append((name, number_of(truth)))
     return tuple(told)
-
-
-def _is_empty_bracket(word):
-    """Tell whether a word without letters has just one bracket that holds nothing, as `()` and those closed by it."""
-    return word.startswith("()") and word.count("(") == 1
 
 
 def _closed(held):
@@ -92,7 +84,7 @@ def _closed(held):
 
 def _read_slot(slot, given):
     """What stands in a slot of a right side; whatever doesn't fit there is found when the whole is looked at."""
-    if slot == "parts" or (slot in SLOTS_OF_TERMS and isinstance(given, list)):
+    if isinstance(given, list):
         return tuple(given)
     if not isinstance(given, str):
         return given

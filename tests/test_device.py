@@ -189,6 +189,20 @@ class Ticks(RefusalCase):
         device.ticks(3)
         self.assertEqual((device.beat(), device.came(), device.late()), (2, [], []))
 
+    def test_one_tick_late(self):
+        device = Device(CODE, time=CODE.most())
+        device.ticks()
+        device.give((A, 0, 0))
+        device.ticks()
+        self.assertEqual((device.under_way(), device.late()), (True, [(0, 1)]))
+
+    def test_120_beats_that_need_no_letters(self):
+        code = Code(Flat([], [row(A, 2, ("add", c(I), ("lit", 2, 1)))], [cell(I, 2, 0, f(A), (), None)], [("x", (A,), ())]))
+        device = Device(code, time=code.most())
+        while device.tick() < 130 * code.most():
+            device.ticks(10)
+        self.assertEqual((device.beat(), device.under_way(), len(device.came()), device.kept()), (120, False, 120, {I: 0}))
+
     def test_120_beats(self):
         device = Device(CODE, time=CODE.most())
         for beat in range(120):

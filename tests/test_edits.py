@@ -266,6 +266,16 @@ class LedOver(LiveCase):
         self.edited(live, 2, {"a": 1})
         self.assertEqual(live.kept(), {("last", (), "k", 0): 7, ("last", (), "m", 0): 5})
 
+    def test_forty_at_most(self):
+        rows = [("r" + sign, (4, 2), (), (0, 1, 2, 3)) for sign in "abcdefghij"]
+        told = program(node("main", [("a", 4)], [("s", 4)], rows, let("s", n("a")), *[let(one[0], last(one[0])) for one in rows]))
+        led = [(("last", (), name, 3 - at), ("last", (), name, at)) for name in ("r" + sign for sign in "abcdefghij") for at in range(4)]
+        live = Live(told)
+        live.edit(told, at=0, led=led)
+        live.beat({"a": 0})
+        self.assertEqual(list(live.kept().values()), [3, 2, 1, 0] * 10)
+        self.refused(FlowError, NoEdit, more := led + led[:1], live.edit, told, at=1, led=more)
+
     def test_widths(self):
         one, other = self.wide("k", 5), self.wide("m", 1, 3)
         pair = (("last", (), "k", 0), ("last", (), "m", 0))
@@ -300,6 +310,11 @@ class LedOver(LiveCase):
             live.edit(blocked(many), at=2, led=led)
             self.assertEqual([live.beat(t)["y"] for _ in range(4)], awaited, (many, led))
         self.refused_fields(FlowError, NoEdit, {"found": (following, following)}, Live(blocked(3)).edit, blocked(2), at=0, led=[(following, following)])
+        # Of as many states, in a node of another name, it goes over by hand alone.
+        for led, awaited in (([], 0), ([(following, following)], 2)):
+            live = Live(blocked(3))
+            live.edit(blocked(3, name="far"), at=2, led=led)
+            self.assertEqual([live.beat(t)["y"] for _ in range(3)][-1], awaited)
         # To a `next` from a `next` alone; from a `next` to any of its width.
         twos = program(node("main", [("t", 1)], [("y", 3, (), 0)], [("k", 2, (), 1)], let("k", last("k")), let("y", ("wide", 3, n("k")))))
         k = ("last", (), "k", 0)

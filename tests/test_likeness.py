@@ -63,6 +63,12 @@ class Likeness(LikenessCase):
             self.refused(FlowError, NoNumber, thing, likeness, ONE_BIT, TWO_BITS, most=thing)
         self.assertRaises(TypeError, likeness, ONE_BIT, TWO_BITS, 200)
 
+    def test_200_pairs_where_nothing_else_is_said(self):
+        def one(many):
+            return one_of([], [("x", 1)], let("x", lit(1, 1)), let("k", ("pick", ("same", last("k"), lit(8, many - 1)), lit(8, 0), ("add", last("k"), lit(8, 1)))), inner=[("k", 8, (), 0)])
+        self.assertEqual(len(likeness(one(200), one(100))[1]), 200)
+        self.refused_fields(Barred, TooMany, {"many": 201}, likeness, one(201), one(3))
+
     def test_unlike_ins_and_outs(self):
         lets = [let("x", lit(1, 1)), let("y", lit(1, 1))]
 

@@ -103,6 +103,8 @@ class Mades(MadeCase):
                ("lib", (), ()), ("lib", (), good * 9), ("lib", (), (("a.b", *TWICE[1:]),)), ("lib", (), (TWICE[:4],)), ("lib", (), (None,)), ("lib", (["a"],), good)]
         for thing in bad + any_things():
             self.refused(FlowError, NoModules, thing, Made, thing, thing)
+            self.refused(FlowError, NoModules, thing, Made, thing, [])
+            self.refused(FlowError, NoModules, thing, Made, thing)
 
     def test_lists_of_mades(self):
         lib, mid, top = three()
@@ -115,6 +117,14 @@ class Mades(MadeCase):
         made = Made(MID, uses)
         uses.clear()
         self.assertEqual(joined([lib, made], "mid.one"), joined([made, lib], "mid.one"))
+
+    def test_as_many_as_there_may_be(self):
+        mades = [Made((name, (), (TWICE,))) for name in "abcdefghij"]
+        nodes = tuple(calls("x" + name, name + ".twice") for name in "abcd") + tuple(calls("y" + name, "xa") for name in "ab")
+        made = Made(("use", ("d", "c", "b", "a"), nodes), mades)
+        self.assertEqual(len(made.nodes()), 6)
+        self.assertEqual(len(Made(("many", (), tuple((name, *TWICE[1:]) for name in "abcdefgh"))).nodes()), 8)
+        self.assertEqual(joined(mades, "j.twice").main(), "j.twice")
 
     def test_used_ones_that_are_not_there(self):
         lib, mid, _ = three()

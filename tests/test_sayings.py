@@ -112,6 +112,20 @@ class Sayings(SayingCase):
         self.refused_fields(Barred, TooMany, {"many": 201}, saying, one(200), "ok")
         self.assertEqual(len(saying(one(200), "ok", most=201)[1]), 201)
 
+    def test_200_where_nothing_else_is_said_of_memories_reached(self):
+        def one(many):
+            return Flat([], [], [cell(I, 8, 0, ("pick", ("same", c(I), flat_lit(8, many - 1)), flat_lit(8, 0), ("add", c(I), flat_lit(8, 1))), (), None)], [])
+        self.assertEqual(len(reached(one(200))), 200)
+        self.refused_fields(Barred, TooMany, {"many": 201}, reached, one(201))
+
+    def test_what_falls_goes_ahead_of_memories_behind_its_beat(self):
+        # Behind the first beat there are two; by one of them runs come to many more at the beat at which the other falls.
+        two = program(node("main", [("a", 3)], [("ok", 1)], [("k", 3, (), 0)], let("ok", ("not", ("same", last("k"), lit(3, 2)))),
+                           let("k", ("pick", ("same", last("k"), lit(3, 0)), ("pick", ("bit", 0, n("a")), lit(3, 2), lit(3, 1)), n("a")))))
+        told = saying(two, "ok", most=3)
+        self.assertEqual((told[0], len(told[1]), told[1][0]), ("falls", 2, {flow("a"): 1}))
+        self.refused_fields(Barred, TooMany, {"many": 3}, saying, two, "ok", most=2)
+
     def test_memories_of_beats_behind_a_fall_are_not_asked_for(self):
         wide = program(node("main", [("a", 8)], [("ok", 1)], [("k", 8, (), 0)], let("k", n("a")), let("ok", ("not", ("less", last("k"), n("a"))))))
         self.assertEqual(saying(wide, "ok", most=1), ("falls", [{flow("a"): 1}]))

@@ -255,6 +255,18 @@ class Rows(TextCase):
         ):
             self.refused_in(BLOCKED, at, *rows)
 
+    def test_a_block_ahead_of_all_lets(self):
+        rows = [*HEAD, *BLOCK, *LETS[:2], "main n"]
+        self.assertEqual(len(read("\n".join(rows))), 1)
+        for at in range(7, 14):
+            for row in ("in z 4 -", "out z 4 - -", "flow z 4 - -", "states", "main n", "node m"):
+                self.refused_in(rows, at, row)
+
+    def test_a_let_behind_ways(self):
+        for way in ("strong (name t) p on", "weak (name t) p on"):
+            rows = [*HEAD, "states", "state p", "let f = (name a)", way, "let x = (name a)", "end", *LETS[:2], "main n"]
+            self.no_row(10, "\n".join(rows))
+
     def test_many_states_and_ways(self):
         def made(states, strong, weak):
             ways = ["strong (name t) p on"] * strong + ["weak (name t) p on"] * weak
@@ -320,7 +332,7 @@ class Terms(TextCase):
         call = ("call", "twice", (n("a"),), None)
         for thing in [*any_things(), call, "(name x)", ("name", "X")]:
             self.refused(FlowError, NoTerm, thing, term_text, thing)
-        for thing in [*any_things(), "(name x)\n", "\n(name x)", "(name\nx)", "(name x) (name y)", "(name x", "name x", "(call twice ((name a)) -)", "((name x))", "()", "", "  ", "(not " * 1000, "(" * 6000,
+        for thing in [*any_things(), "(name x)\n", "\n(name x)", "(name\nx)", "(name x) (name y)", "(name x", "name x", "name x)", "name x))", "lit 4 3)", "(name x))", "(name x) )", "( name x)", "(call twice ((name a)) -)", "((name x))", "()", "", "  ", "(not " * 1000, "(" * 6000,
                       b"(name x)", ["(name x)"], ("name", "x"), "let x = (name x)", "(lit 4 16)", "(name x)\t"]:
             self.refused(FlowError, NoText, thing, read_term, thing)
 

@@ -76,6 +76,17 @@ class Origins(OriginCase):
         ):
             self.assertEqual(origin(program=self.program, name=name), awaited, name)
 
+    def test_far_beneath(self):
+        inner = node("inner", [("a", 4)], [("b", 4)], [], let("b", ("call", "sum", (n("a"),), None)))
+        outer = node("outer", [("a", 4)], [("y", 4)], [("r", (3, 4))], let("y", ("at", 0, n("r"))), let("r", ("map", "inner", (("row", (n("a"),) * 3),), None)))
+        told = program(SUM, inner, outer)
+        place = ((1, 2), (0, 0))
+        self.assertEqual(origin(told, ("flow", place, "a", 0, -1)), (((1, 2),), "inner", "arg", 0))
+        self.assertEqual(origin(told, ("fresh", place)), (((1, 2),), "inner", "arg", 0))
+        self.assertEqual(origin(told, ("turn", ((1, 2),))), ((), "outer", "arg", 1))
+        self.assertEqual(origin(told, ("last", place, "s", 0)), (place, "sum", "let", 0))
+        self.assertEqual(found_by(told, ((1, 2),), 0), [("flow", ((1, 2),), "b", 0, -1)])
+
     def test_last_worths_of_ins_and_of_a_block_s_flow(self):
         told = program(
             node("echo", [("a", 1)], [("x", 1)], [], let("x", ("pick", lit(1, 1), n("a"), ("first", lit(1, 0), last("a"))))),
@@ -330,6 +341,13 @@ class Reasons(ReasonCase):
             told = list(reason[:4])
             told[at] = forged
             self.told_false(shows_reason(self.flat, self.rows, told))
+        for read in (None, 0, "", (), (A,), (A, 0, 0), [A, 0], {A: 0}, ("a", 0), (None, 0), (["a"], 0), (A, None), (A, True), ({}, 0), B, ((A, 0),)):
+            self.told_false(shows_reason(self.flat, self.rows, [reason[0], (B, 0, 2, (read,))]))
+        numbered = Flat([(("f", 1), 1, ())], [row(C, 1, ("not", f(("f", 1))))], [], [])
+        rows = [{("f", 1): 1}]
+        self.told_true(shows_reason(numbered, rows, [(("f", 1), 0, 1, ()), (C, 0, 0, ((("f", 1), 0),))]))
+        self.told_false(shows_reason(numbered, rows, [(("f", 1), 0, 1, ()), (C, 0, 0, ((("f", True), 0),))]))
+        self.told_false(shows_reason(numbered, rows, [(("f", True), 0, 1, ()), (C, 0, 0, ((("f", 1), 0),))]))
         for forged in ((B, 1, 0, ((A, 1),)), (B, 1, False, ((A, 1),)), (B, 1, 2, ((A, 1),))):
             self.told_false(shows_reason(self.flat, self.rows, [reason[4], forged]))
         for thing in any_things():

@@ -93,7 +93,7 @@ class Device:
         return list(self._late)
 
     def kept(self):
-        return {item: self._kept[item] for item in self._kept}
+        return _copied(self._kept)
 
     def twin(self):
         other = Device(self._code, time=self._time)
@@ -101,9 +101,7 @@ class Device:
         other._beat = self._beat
         other._turn = None if self._turn is None else self._turn.copied()
         other._kept = self.kept()
-        for beat in self._letters:
-            letters = self._letters[beat]
-            other._letters[beat] = {name: letters[name] for name in letters}
+        other._letters = {beat: _copied(self._letters[beat]) for beat in self._letters}
         other._came = list(self._came)
         other._late = list(self._late)
         return other
@@ -164,3 +162,7 @@ class Device:
         self._came.extend(letters)
         self._beat += 1
         return letters
+
+
+def _copied(worths):
+    return {name: worths[name] for name in worths}

@@ -10,7 +10,7 @@ SLOTS_OF_NUMBERS = ("truth", "width", "bit", "place")
 
 
 def words_of_row(row):
-    """The words of a row, parted by blanks, right sides in brackets as what they are; None where one is none."""
+    """The words of a row, parted by blanks, right sides in brackets as what they are; None where brackets are off."""
     # The last list holds what stands in the bracket that is open, the first one what stands in none.
     open_ones = [[]]
     for word in row.split(" "):
